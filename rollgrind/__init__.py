@@ -1,0 +1,1 @@
+"""Regrinding schedule for mill rolls with shared service visits."""
