@@ -1,8 +1,10 @@
 """Reads a list of calls on one mill and tells their answers as another list."""
 
-from rollgrind.operations import add_roll, best_period, cheapest_plan, create, get_roll, lowest_cost
-from rollgrind.operations import mean_weekly_cost, remove_roll, set_age, set_visit_cost
-from rollgrind.refusals import NoMill, NoRoll, NotWritten, OutsideLimits, TooManyRolls
+from rollgrind.operations import add_roll, best_period, cheapest_plan, cost_of_single_roll, cost_without_regrinding
+from rollgrind.operations import create, get_roll, has_rising_costs, joint_savings, lowest_cost, lowest_cost_for_visit
+from rollgrind.operations import mean_weekly_cost, next_regrind, plan_cost, remove_roll, run_planned_week, run_week
+from rollgrind.operations import set_age, set_visit_cost, status
+from rollgrind.refusals import NeverReground, NoMill, NoRoll, OutsideLimits, TooManyRolls
 from rollgrind.state import Request
 
 
@@ -38,6 +40,8 @@ def answer(request, place, numbers):
         return [-22]
     except TooManyRolls:
         return [-28]
+    except NeverReground:
+        return [-33]
 
 
 def operate(request, place, numbers):
@@ -46,10 +50,13 @@ def operate(request, place, numbers):
     # Asked here once for all other calls, so that no check of theirs can come before it.
     if request.mill is None:
         raise NoMill()
-    return operate_on_mill(request.mill, place, numbers)
+    # The calls 8 to 17 are about weeks to come, the others about the mill as it is.
+    if 8 <= place <= 17:
+        return operate_on_weeks(request.mill, place, numbers)
+    return operate_on_rolls(request.mill, place, numbers)
 
 
-def operate_on_mill(mill, place, numbers):
+def operate_on_rolls(mill, place, numbers):
     if place == 1:
         return add_roll(mill, numbers[0], numbers[1:])
     if place == 2:
@@ -64,8 +71,28 @@ def operate_on_mill(mill, place, numbers):
         return mean_weekly_cost(mill, numbers[0], numbers[1])
     if place == 7:
         return best_period(mill, numbers[0])
+    if place == 18:
+        return has_rising_costs(mill, numbers[0])
+    return status(mill)
+
+
+def operate_on_weeks(mill, place, numbers):
     if place == 8:
         return cheapest_plan(mill, numbers[0])
     if place == 9:
         return lowest_cost(mill, numbers[0])
-    raise NotWritten()
+    if place == 10:
+        return plan_cost(mill, numbers)
+    if place == 11:
+        return run_week(mill, numbers[0])
+    if place == 12:
+        return run_planned_week(mill, numbers[0])
+    if place == 13:
+        return cost_without_regrinding(mill, numbers[0])
+    if place == 14:
+        return cost_of_single_roll(mill, numbers[0], numbers[1])
+    if place == 15:
+        return lowest_cost_for_visit(mill, numbers[0], numbers[1])
+    if place == 16:
+        return joint_savings(mill, numbers[0])
+    return next_regrind(mill, numbers[0], numbers[1])

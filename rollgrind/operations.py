@@ -1,8 +1,8 @@
 """The operations on a mill: each gives back its answer or raises its refusal."""
 
 from rollgrind.periods import LONGEST_PERIOD, cheapest_period, mean_cost
-from rollgrind.plans import Planner
-from rollgrind.refusals import NoRoll, OutsideLimits, TooManyRolls
+from rollgrind.plans import Planner, ages_after_week, ages_now, cost_of_plan, cost_of_week, is_reground
+from rollgrind.refusals import NeverReground, NoRoll, OutsideLimits, TooManyRolls
 from rollgrind.state import Mill, Roll
 
 MOST_ROLLS = 3
@@ -24,9 +24,23 @@ def roll_at(mill, roll):
     return mill.rolls[roll]
 
 
-def cheapest(mill, weeks):
+def check_set(mill, chosen):
+    check_limits(chosen, 0, (1 << len(mill.rolls)) - 1)
+
+
+def cheapest(rolls, visit_cost, weeks):
     check_limits(weeks, 0, MOST_WEEKS)
-    return Planner(mill.rolls, mill.visit_cost).cheapest(weeks)
+    return Planner(rolls, visit_cost).cheapest(weeks)
+
+
+def execute_week(mill, chosen):
+    ages = ages_now(mill.rolls)
+    cost = cost_of_week(mill.rolls, mill.visit_cost, ages, chosen)
+    for roll, age in zip(mill.rolls, ages_after_week(ages, chosen)):
+        roll.age = age
+    mill.spent += cost
+    mill.week_count += 1
+    return cost
 
 
 def create(request, visit_cost):
@@ -85,9 +99,69 @@ def best_period(mill, roll):
 
 
 def cheapest_plan(mill, weeks):
-    best = cheapest(mill, weeks)
+    best = cheapest(mill.rolls, mill.visit_cost, weeks)
     return [best[0]] + list(best[1])
 
 
 def lowest_cost(mill, weeks):
-    return [cheapest(mill, weeks)[0]]
+    return [cheapest(mill.rolls, mill.visit_cost, weeks)[0]]
+
+
+def plan_cost(mill, plan):
+    check_limits(len(plan), 0, MOST_WEEKS)
+    for chosen in plan:
+        check_set(mill, chosen)
+    return [cost_of_plan(mill.rolls, mill.visit_cost, plan)]
+
+
+def run_week(mill, chosen):
+    check_set(mill, chosen)
+    return [execute_week(mill, chosen)]
+
+
+def run_planned_week(mill, weeks):
+    check_limits(weeks, 1, MOST_WEEKS)
+    plan = cheapest(mill.rolls, mill.visit_cost, weeks)[1]
+    return [plan[0], execute_week(mill, plan[0])]
+
+
+def cost_without_regrinding(mill, weeks):
+    check_limits(weeks, 0, MOST_WEEKS)
+    return [cost_of_plan(mill.rolls, mill.visit_cost, [0] * weeks)]
+
+
+def cost_of_single_roll(mill, roll, weeks):
+    found = roll_at(mill, roll)
+    return [cheapest([found], mill.visit_cost, weeks)[0]]
+
+
+def lowest_cost_for_visit(mill, visit_cost, weeks):
+    check_limits(visit_cost, 0, HIGHEST_COST)
+    return [cheapest(mill.rolls, visit_cost, weeks)[0]]
+
+
+def joint_savings(mill, weeks):
+    together = cheapest(mill.rolls, mill.visit_cost, weeks)[0]
+    alone = sum([cheapest([roll], mill.visit_cost, weeks)[0] for roll in mill.rolls])
+    return [alone - together]
+
+
+def next_regrind(mill, roll, weeks):
+    roll_at(mill, roll)
+    plan = cheapest(mill.rolls, mill.visit_cost, weeks)[1]
+    for week, chosen in enumerate(plan):
+        if is_reground(roll, chosen):
+            return [week]
+    raise NeverReground()
+
+
+def has_rising_costs(mill, roll):
+    costs = roll_at(mill, roll).weekly_costs
+    for at in range(1, len(costs)):
+        if costs[at] < costs[at - 1]:
+            return [0]
+    return [1]
+
+
+def status(mill):
+    return [mill.week_count, mill.spent, mill.visit_cost, len(mill.rolls)]

@@ -3,6 +3,10 @@
 from rollgrind.state import week_cost
 
 
+def ages_now(rolls):
+    return [roll.age for roll in rolls]
+
+
 def is_reground(number, chosen):
     return (chosen >> number) & 1 == 1
 
@@ -25,6 +29,15 @@ def ages_after_week(ages, chosen):
     return [age + 1 for age in regrind(ages, chosen)]
 
 
+def cost_of_plan(rolls, visit_cost, plan):
+    cost = 0
+    ages = ages_now(rolls)
+    for chosen in plan:
+        cost += cost_of_week(rolls, visit_cost, ages, chosen)
+        ages = ages_after_week(ages, chosen)
+    return cost
+
+
 class Planner:
     def __init__(self, rolls, visit_cost):
         self.rolls = rolls
@@ -33,7 +46,7 @@ class Planner:
         self.known = {}
 
     def cheapest(self, weeks):
-        return self.cheapest_from(tuple([roll.age for roll in self.rolls]), weeks)
+        return self.cheapest_from(tuple(ages_now(self.rolls)), weeks)
 
     def cheapest_from(self, ages, weeks):
         if weeks == 0:

@@ -17,6 +17,5 @@ class TooManyRolls(Exception):
     pass
 
 
-class NotWritten(Exception):
-    # Not a refusal of the document: a call that the program does not answer yet.
+class NeverReground(Exception):
     pass

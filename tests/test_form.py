@@ -35,6 +35,8 @@ METHODS = """
     setdefault split splitlines startswith strip update upper values zfill bit_length
 """.split()
 
+CHANGING_METHODS = "append clear extend insert pop remove reverse setdefault update".split()
+
 UNUSED_NAMES = """
     register mro elements open input version_info with_traceback add_note attrgetter breakpoint builtins compile
     copyright credits delattr dir eval exec exit gc getattr globals hasattr help id importlib license locals
@@ -180,7 +182,55 @@ class TestNodes(unittest.TestCase):
             self.assertIn(ast.unparse(node.exc.func), own, (name, node.lineno))
 
 
+class TestPlainerThanAsked(unittest.TestCase):
+    """The package does without some of what the rules allow, so that their finer points need no look."""
+
+    def test_no_sets_lambdas_powers_or_keywords(self):
+        for name, node in nodes((ast.Set, ast.Lambda, ast.Pow, ast.keyword, ast.JoinedStr)):
+            self.fail((name, ast.dump(node)))
+        for name, node in nodes(ast.Name):
+            self.assertNotIn(node.id, ("set", "frozenset"), (name, node.lineno))
+
+    def test_texts_are_docstrings_alone(self):
+        for name, node in nodes(ast.Constant):
+            if isinstance(node.value, str):
+                self.assertEqual(node.lineno, 1, (name, node.lineno))
+                self.assertNotIn("%", node.value, name)
+
+    def test_walks_stand_behind_in(self):
+        walked = [node.iter for _, node in nodes((ast.For, ast.comprehension))]
+        for name, node in nodes(ast.Call):
+            if isinstance(node.func, ast.Name) and node.func.id in ("range", "zip", "enumerate", "reversed"):
+                self.assertIn(node, walked, (name, node.lineno))
+
+    def test_what_a_loop_walks_is_not_changed_in_it(self):
+        for name, loop in nodes(ast.For):
+            walked = {ast.unparse(node) for node in ast.walk(loop.iter) if isinstance(node, (ast.Name, ast.Attribute))}
+            for node in [node for row in loop.body for node in ast.walk(row)]:
+                changed = None
+                if isinstance(node, ast.Attribute) and node.attr in CHANGING_METHODS:
+                    changed = node.value
+                if isinstance(node, ast.Subscript) and isinstance(node.ctx, ast.Store):
+                    changed = node.value
+                if changed is not None:
+                    self.assertNotIn(ast.unparse(changed), walked, (name, node.lineno))
+
+    def test_methods_with_two_underscores(self):
+        for name, node in nodes(ast.FunctionDef):
+            if node.name.startswith("_"):
+                self.assertEqual(node.name, "__init__", name)
+                self.assertEqual([row for row in ast.walk(node) if isinstance(row, ast.Return)], [], name)
+
+
 class TestNames(unittest.TestCase):
+    def test_pythons_own_and_classes_are_not_kept_or_handed_on(self):
+        classes = {node.name for _, node in nodes(ast.ClassDef)}
+        free = [node.func for _, node in nodes(ast.Call)] + [node.type for _, node in nodes(ast.ExceptHandler)]
+        free += [base for _, node in nodes(ast.ClassDef) for base in node.bases]
+        for name, node in nodes(ast.Name):
+            if node.id in classes or node.id in PYTHONS_OWN:
+                self.assertIn(node, free, (name, node.lineno))
+
     def bound(self):
         for name, node in nodes((ast.Name, ast.arg)):
             if isinstance(node, ast.arg):

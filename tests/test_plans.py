@@ -69,7 +69,7 @@ class TestCheapestPlan(unittest.TestCase):
         self.assertEqual(last(create(0), *free, cheapest_plan(5)), [105, 0, 0, 0, 0, 0])
         # Regrinding costs just what it saves.
         self.assertEqual(last(create(2), add_roll(3, [0, 5]), set_age(0, 1), cheapest_plan(1)), [5, 0])
-        # One regrinding in any of the weeks 0 to 2 costs as much: the last of them is smallest.
+        # Regrinding in week 1 costs as much as in week 2, which makes the smaller list.
         self.assertEqual(last(create(0), add_roll(1, [0, 0, 9]), set_age(0, 0), cheapest_plan(3)), [1, 0, 0, 1])
         # One roll is worth the visit; regrinding the other too costs just what it saves.
         worth, even = add_roll(9, [0, 50]), add_roll(9, [0, 9])
